@@ -97,6 +97,38 @@ func TestExample(t *testing.T) {
 	is(t, "laid anew", d.Image() == headOf(3, 0)+headOf(2, 1)+cellsOf(3, "b", "")+cellsOf(2, "b", ""), true)
 }
 
+// P6.2 to P6.4: behind each Open and each Reset the journal counts the records that were laid, and the sectors they
+// fill; what is appended stands behind them, and over none of them.
+func TestBehindLaid(t *testing.T) {
+	d := disk.New(6)
+	j, _ := opened(t, d)
+	is(t, "Reset", j.Reset("b"), api.OK)
+	is(t, "Len", j.Len(), 1)
+	is(t, "Left", j.Left(), 1)
+	is(t, "Append", j.Append("c"), api.OK)
+	is(t, "both stand there", sectorsOf(d, 4, 2) == cellsOf(2, "b", "c"), true)
+	for count := range 5 {
+		for _, length := range []int{0, 1, 110, 111, 330} {
+			bodies := slices.Repeat([]string{someText(count, length)}, count)
+			fill := count * journal.Need(length)
+			d := disk.New(2 + 2*(fill+3))
+			j, _ := opened(t, d)
+			is(t, "Reset", j.Reset(bodies...), api.OK)
+			is(t, "Len behind Reset", j.Len(), count)
+			is(t, "Left behind Reset", j.Left(), 3)
+			is(t, "Append behind Reset", j.Append("c"), api.OK)
+			j, list := opened(t, d)
+			same(t, "behind Reset", list, append(bodies[:count:count], "c"))
+			is(t, "Len behind Open", j.Len(), count+1)
+			is(t, "Left behind Open", j.Left(), 2)
+			is(t, "Append behind Open", j.Append("d"), api.OK)
+			is(t, "Left", j.Left(), 1)
+			_, list = opened(t, d)
+			same(t, "behind Open", list, append(bodies[:count:count], "c", "d"))
+		}
+	}
+}
+
 // P6.2 to P6.4: where the halves are, on disks of all small sizes.
 func TestHalves(t *testing.T) {
 	for n := 4; n < 20; n++ {
