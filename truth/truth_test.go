@@ -332,7 +332,18 @@ func TestStrange(t *testing.T) {
 		}
 	}
 	core := schema.Core()
-	asked(t, core, []api.Attr{{Name: "cn"}, {Name: "sn", Values: []string{"\xff"}}}, map[string]string{"(cn=*)": "false", "(cn=a)": "false", "(sn=*)": "true", "(sn=a)": "false", "(sn>=a)": "false", "(sn<=a)": "false", "(sn=a*)": "false"})
+	asked(t, core, []api.Attr{{Name: "cn"}, {Name: "sn", Values: []string{"\xff"}}}, map[string]string{"(cn=*)": "false", "(cn=a)": "false", "(sn=*)": "true", "(sn=a)": "false", "(sn=a*)": "false", "(sn>=)": "undefined"})
+	// A value without a normal form is neither ahead of another one nor behind it, as layer 28 wants it.
+	for _, c := range []struct {
+		syn         int
+		value, want string
+	}{
+		{api.Text, "a", "true"}, {api.Exact, "a", "true"}, {api.Ascii, "a", "true"}, {api.Number, "5", "true"}, {api.Time, "20240229120000Z", "true"},
+		{api.Text, "", "undefined"}, {api.Number, "x", "undefined"}, {api.Truth, "TRUE", "undefined"}, {api.Name, "cn=a", "undefined"},
+	} {
+		s := api.Schema{Types: []api.Type{{Name: "cn", Syntax: c.syn}}}
+		asked(t, s, []api.Attr{{Name: "cn", Values: []string{"\xff"}}}, map[string]string{"(cn>=" + c.value + ")": c.want, "(cn<=" + c.value + ")": c.want})
+	}
 }
 
 // Memory: what is handed in stays as it is, spare room included.
